@@ -1,0 +1,1 @@
+"""Nobodystays: turns that leave nobody in place."""

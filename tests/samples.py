@@ -1,0 +1,94 @@
+"""Houses, wrong values, and a second way to work out groups, for the tests."""
+
+from itertools import permutations, product
+
+ONE_HALL = (1, ((0,),))
+THREE = (3, ((1, 2, 0), (0, 2, 1)))
+FOUR = (4, ((1, 2, 3, 0), (1, 0, 2, 3)))
+LAME = (5, ((1, 2, 0, 3, 4), (0, 1, 2, 4, 3)))
+RING_OF_EIGHT = (8, ((1, 2, 3, 4, 5, 6, 7, 0),))
+SIX_TURNS = (
+    4,
+    ((0, 1, 2, 3), (1, 0, 2, 3), (1, 0, 2, 3), (0, 1, 3, 2), (1, 0, 3, 2), (0, 1, 2, 3)),
+)
+# Groups of just 5040 turns, on seven halls and on eight.
+SEVEN_ALL = (7, ((1, 2, 3, 4, 5, 6, 0), (1, 0, 2, 3, 4, 5, 6)))
+SEVEN_OF_EIGHT = (8, ((1, 2, 3, 4, 5, 6, 0, 7), (1, 0, 2, 3, 4, 5, 6, 7)))
+# Groups of more: all 40320 turns of eight halls, and the even 20160.
+EIGHT_ALL = (8, ((1, 2, 3, 4, 5, 6, 7, 0), (1, 0, 2, 3, 4, 5, 6, 7)))
+EIGHT_EVEN = (8, ((1, 2, 3, 4, 5, 6, 0, 7), (0, 1, 2, 3, 4, 6, 7, 5)))
+
+NO_WHOLE = (
+    None, True, False, 0, 3, "", "halls", (), [], {}, (3,), (3, ((1, 2, 0),), 0),
+    [3, ((1, 2, 0),)], {3: ((1, 2, 0),)}, ((3, ((1, 2, 0),)),),
+)
+NO_HALLS = (
+    (0, ()), (0, ((),)), (9, ((1, 2, 3, 4, 5, 6, 7, 8, 0),)), (-1, ((0,),)), (True, ((0,),)),
+    (False, ((0,),)), (None, ((0,),)), ("3", ((1, 2, 0),)), ((3,), ((1, 2, 0),)),
+    ([3], ((1, 2, 0),)), ({}, ((1, 2, 0),)), (10 ** 40, ((0,),)), (9, None), (True, True),
+)
+NO_TURNS = (
+    (2, ()), (2, ((1, 0),) * 7), (2, [(1, 0)]), (2, None), (2, True), (2, 1), (2, "10"), (2, {}),
+    (2, (1, 0)), (2, ([1, 0],)), (2, ("10",)), (2, ({0: 1, 1: 0},)), (2, (None,)), (2, ((),)),
+    (2, ((0,),)), (2, ((1, 0, 2),)), (2, ((1, 0, 0),)), (2, ((0, 0),)), (2, ((1, 2),)), (2, ((-1, 0),)),
+    (2, ((True, False),)), (2, ((True, 0),)), (2, ((1, False),)), (1, ((False,),)), (2, ((None, 0),)),
+    (2, (("1", "0"),)), (2, (((1,), (0,)),)), (2, (([1], 0),)), (2, ((1, 0), (1, 1))), (2, ((1, 0), None)),
+    (2, ((1, 0), [0, 1])), (3, ((1, 0),)),
+)
+WRONG_HOUSES = tuple(
+    [(value, "whole") for value in NO_WHOLE]
+    + [(value, "halls") for value in NO_HALLS]
+    + [(value, "turns") for value in NO_TURNS]
+)
+# No turns of three halls.
+WRONG_TURNS = (
+    None, True, False, 0, 120, "", "120", (), [], {}, [1, 2, 0], {0: 1, 1: 2, 2: 0}, (1, 0), (1, 2, 3, 0),
+    (1, 2, 0, 0), (0, 0, 1), (1, 2, 3), (-1, 0, 1), (True, 2, 0), (1, 2, False), (None, 0, 1), ("1", "2", "0"),
+    ((1,), 2, 0), ([1], 2, 0), ({}, 2, 0), ((1, 2, 0),),
+)
+
+
+def all_houses(halls, many):
+    """All houses of so many halls and turns."""
+    turns = list(permutations(range(halls)))
+    return [(halls, chosen) for chosen in product(turns, repeat=many)]
+
+
+def small_houses():
+    """All houses of at most four halls with one or two turns, and more."""
+    houses = []
+    for halls in (1, 2, 3, 4):
+        for many in (1, 2):
+            houses.extend(all_houses(halls, many))
+    houses.extend(all_houses(3, 3))
+    houses.extend([LAME, SIX_TURNS, RING_OF_EIGHT])
+    houses.append((6, ((1, 0, 3, 2, 4, 5), (2, 3, 0, 1, 4, 5), (0, 1, 2, 3, 5, 4))))
+    houses.append((5, ((1, 2, 3, 4, 0), (0, 2, 4, 1, 3))))
+    return houses
+
+
+def joined(first, second):
+    """One turn behind another, hall by hall."""
+    made = []
+    for hall in range(len(first)):
+        made.append(second[first[hall]])
+    return tuple(made)
+
+
+def taken_back(turn):
+    """The turn that leads each hall back."""
+    back = [None] * len(turn)
+    for hall, to in enumerate(turn):
+        back[to] = hall
+    return tuple(back)
+
+
+def group_of(house):
+    """The set of a house's group: the turns, joined with one another until no more come."""
+    halls, turns = house
+    group = {tuple(range(halls))} | set(turns)
+    while True:
+        more = group | {joined(first, second) for first in group for second in turns}
+        if more == group:
+            return group
+        group = more
