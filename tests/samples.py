@@ -18,6 +18,58 @@ SEVEN_OF_EIGHT = (8, ((1, 2, 3, 4, 5, 6, 0, 7), (1, 0, 2, 3, 4, 5, 6, 7)))
 EIGHT_ALL = (8, ((1, 2, 3, 4, 5, 6, 7, 0), (1, 0, 2, 3, 4, 5, 6, 7)))
 EIGHT_EVEN = (8, ((1, 2, 3, 4, 5, 6, 0, 7), (0, 1, 2, 3, 4, 6, 7, 5)))
 
+# Sharp houses of 2, 4, 5, 7 and 8 halls; THREE is one of 3.
+TWO = (2, ((1, 0),))
+FOUR_EVEN = (4, ((1, 0, 3, 2), (1, 2, 0, 3)))
+FIVE_SHARP = (5, ((1, 2, 3, 4, 0), (0, 2, 4, 1, 3)))
+SEVEN_SHARP = (7, ((1, 2, 3, 4, 5, 6, 0), (0, 3, 6, 2, 5, 1, 4)))
+EIGHT_SHARP = (8, ((1, 0, 3, 2, 5, 4, 7, 6), (0, 2, 4, 6, 3, 1, 7, 5)))
+SHARP = (TWO, THREE, FOUR_EVEN, FIVE_SHARP, SEVEN_SHARP, EIGHT_SHARP)
+# Single houses that are not sharp.
+FIVE_FLIPPED = (5, ((1, 2, 3, 4, 0), (0, 4, 3, 2, 1)))
+SINGLE = (
+    (3, ((1, 2, 0),)),
+    (4, ((1, 2, 3, 0),)),
+    (4, ((1, 0, 3, 2), (2, 3, 0, 1))),
+    (5, ((1, 2, 3, 4, 0),)),
+    FIVE_FLIPPED,
+    (6, ((1, 2, 3, 4, 5, 0),)),
+    (6, ((1, 2, 0, 4, 5, 3), (3, 5, 4, 0, 2, 1))),
+    (7, ((1, 2, 3, 4, 5, 6, 0), (0, 6, 5, 4, 3, 2, 1))),
+    (7, ((1, 2, 3, 4, 5, 6, 0), (0, 2, 4, 6, 1, 3, 5))),
+    RING_OF_EIGHT,
+    (8, ((1, 2, 3, 0, 5, 6, 7, 4), (4, 7, 6, 5, 2, 1, 0, 3))),
+)
+# Houses that lead each hall to each, and are not single.
+FOUR_FLIPPED = (4, ((1, 2, 3, 0), (0, 3, 2, 1)))
+FIVE_EVEN = (5, ((1, 2, 3, 4, 0), (1, 2, 0, 3, 4)))
+SIX_OF_SIXTY = (6, ((1, 2, 3, 4, 0, 5), (5, 4, 2, 3, 1, 0)))
+LOOSE = (
+    FOUR,
+    FOUR_FLIPPED,
+    FIVE_EVEN,
+    (5, ((1, 2, 3, 4, 0), (1, 0, 2, 3, 4))),
+    (6, ((1, 2, 3, 4, 5, 0), (0, 5, 4, 3, 2, 1))),
+    SIX_OF_SIXTY,
+    (6, ((1, 0, 2, 3, 4, 5), (2, 3, 4, 5, 0, 1))),
+    (7, ((1, 2, 3, 4, 5, 6, 0), (0, 1, 4, 6, 2, 5, 3))),
+    (8, ((1, 2, 3, 4, 5, 6, 7, 0), (0, 7, 6, 5, 4, 3, 2, 1))),
+)
+# Houses of one hall, or whose turns do not lead each hall to each.
+NOT_WHOLE = (
+    ONE_HALL,
+    (1, ((0,),) * 6),
+    (2, ((0, 1),)),
+    (3, ((1, 0, 2),)),
+    (4, ((1, 0, 2, 3),)),
+    (4, ((1, 0, 3, 2),)),
+    (4, ((1, 0, 2, 3), (0, 1, 3, 2))),
+    LAME,
+    SIX_TURNS,
+    (8, ((1, 2, 3, 0, 5, 6, 7, 4),)),
+    SEVEN_OF_EIGHT,
+)
+
 NO_WHOLE = (
     None, True, False, 0, 3, "", "halls", (), [], {}, (3,), (3, ((1, 2, 0),), 0),
     [3, ((1, 2, 0),)], {3: ((1, 2, 0),)}, ((3, ((1, 2, 0),)),),
@@ -92,3 +144,19 @@ def group_of(house):
         if more == group:
             return group
         group = more
+
+
+def renamed(house, names):
+    """The house in which each hall has another number: that at its place in names."""
+    halls, turns = house
+    return (halls, tuple(joined(joined(taken_back(names), turn), names) for turn in turns))
+
+
+def whole_houses():
+    """Sharp houses, other single ones and others, and all of them with halls called otherwise."""
+    houses = list(SHARP + SINGLE + LOOSE)
+    for house in SHARP + SINGLE + LOOSE:
+        halls = house[0]
+        houses.append(renamed(house, tuple(reversed(range(halls)))))
+        houses.append(renamed(house, tuple(sorted(range(halls), key=lambda hall: (hall % 2, -hall)))))
+    return houses

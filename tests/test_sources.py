@@ -4,7 +4,7 @@ import ast
 import unittest
 from pathlib import Path
 
-from nobodystays import groups, stays
+from nobodystays import covers, groups, roamers, singles, stays
 
 PACKAGE = Path(groups.__file__).parent
 INTERFACE = {
@@ -12,6 +12,11 @@ INTERFACE = {
         "is_house", "is_member", "is_transitive", "members", "parts", "likes", "order", "rank", "made",
     ),
     stays: ("stayers", "rings", "table"),
+    roamers: (
+        "roamers", "plain_roamers", "count_roamers", "spare", "least_roamer", "has_fewest", "is_sharp",
+    ),
+    singles: ("surplus", "is_single", "core", "core_is_group"),
+    covers: ("is_within", "count_covered", "uncovered", "shows_uncovered"),
 }
 
 

@@ -1,18 +1,25 @@
-"""What all functions of groups and stays say of wrong arguments and of large groups."""
+"""What functions of one house say of wrong arguments, of large groups and of several lots."""
 
 import copy
 import unittest
 
-from nobodystays.errors import BadHouse, BadRow, BadTurn, TooMany
+from nobodystays.errors import BadHouse, BadRow, BadTurn, NotWhole, TooMany
 from nobodystays.groups import (
     is_house, is_member, is_transitive, likes, made, members, order, parts, rank,
 )
+from nobodystays.roamers import (
+    count_roamers, has_fewest, is_sharp, least_roamer, plain_roamers, roamers, spare,
+)
+from nobodystays.singles import core, core_is_group, is_single, surplus
 from nobodystays.stays import rings, stayers, table
 from tests.samples import (
-    EIGHT_ALL, EIGHT_EVEN, SEVEN_ALL, SEVEN_OF_EIGHT, THREE, WRONG_HOUSES, WRONG_TURNS,
+    EIGHT_ALL, EIGHT_EVEN, NOT_WHOLE, SEVEN_ALL, SEVEN_OF_EIGHT, THREE, WRONG_HOUSES, WRONG_TURNS,
 )
 
-OF_A_HOUSE = (is_transitive, members, order, parts, rank, table)
+OF_MEMBERS = (members, order, table, roamers, plain_roamers, count_roamers, least_roamer)
+OF_MEMBERS_OF_A_LOT = (spare, has_fewest, surplus, is_single, core, core_is_group)
+OF_A_LOT = OF_MEMBERS_OF_A_LOT + (is_sharp,)
+OF_A_HOUSE = (is_transitive, parts, rank) + OF_MEMBERS + OF_A_LOT
 OF_A_TURN = (is_member, likes, rings, stayers)
 # What a wrong row is, for a house of two turns, and the index that it is told by.
 WRONG_ROWS = (
@@ -88,10 +95,25 @@ class WrongArguments(unittest.TestCase):
         self.assertEqual(row, [1, 0])
 
 
+class SeveralLots(unittest.TestCase):
+    def test_not_whole(self):
+        for house in NOT_WHOLE:
+            for function in OF_A_LOT:
+                with self.subTest(house=house, function=function.__name__):
+                    with self.assertRaises(NotWhole) as caught:
+                        function(house)
+                    self.assertIs(caught.exception.__class__, NotWhole)
+
+    def test_two_halls_are_enough(self):
+        for function in OF_A_LOT:
+            with self.subTest(function=function.__name__):
+                function((2, ((1, 0),)))
+
+
 class LargeGroups(unittest.TestCase):
     def test_too_many(self):
         for house in (EIGHT_ALL, EIGHT_EVEN):
-            for function in (members, order, table):
+            for function in OF_MEMBERS + OF_MEMBERS_OF_A_LOT:
                 with self.subTest(function.__name__), self.assertRaises(TooMany) as caught:
                     function(house)
                 self.assertEqual(caught.exception.most, 5040)
@@ -119,6 +141,7 @@ class LargeGroups(unittest.TestCase):
         self.assertEqual(len(likes(EIGHT_ALL, ring)), 5040)
         self.assertEqual(stayers(EIGHT_ALL, swap), (2, 3, 4, 5, 6, 7))
         self.assertEqual(rings(EIGHT_ALL, swap), (1, 1, 1, 1, 1, 1, 2))
+        self.assertIs(is_sharp(EIGHT_ALL), False)
 
     def test_likes_may_be_more_than_5040(self):
         found = likes(EIGHT_ALL, (1, 2, 3, 4, 5, 6, 0, 7))
@@ -136,6 +159,7 @@ class LargeGroups(unittest.TestCase):
         self.assertEqual(len(likes(EIGHT_EVEN, first)), 2880)
         self.assertEqual(stayers(EIGHT_EVEN, second), (0, 1, 2, 3, 4))
         self.assertEqual(rings(EIGHT_EVEN, first), (1, 7))
+        self.assertIs(is_sharp(EIGHT_EVEN), False)
 
     def test_5040_are_not_too_many(self):
         for house in (SEVEN_ALL, SEVEN_OF_EIGHT):
