@@ -6,6 +6,7 @@ from itertools import permutations
 
 from nobodystays.covers import count_covered, is_within, shows_uncovered, uncovered
 from nobodystays.errors import BadHouse, NotWithin, TooMany, Unlike
+from tests.cases import Raising
 from tests.samples import (
     EIGHT_ALL, EIGHT_EVEN, EIGHT_SHARP, FIVE_EVEN, FIVE_FLIPPED, FIVE_SHARP, FOUR, FOUR_EVEN, FOUR_FLIPPED, LAME,
     ONE_HALL, RING_OF_EIGHT, SEVEN_ALL, SEVEN_OF_EIGHT, SEVEN_SHARP, SIX_OF_SIXTY, THREE, TWO, WRONG_HOUSES,
@@ -229,13 +230,7 @@ class Shown(unittest.TestCase):
             self.assertIs(shows_uncovered(house, part, turn), False)
 
 
-class WrongArguments(unittest.TestCase):
-    def raised(self, error, function, *arguments):
-        with self.assertRaises(error) as caught:
-            function(*arguments)
-        self.assertIs(caught.exception.__class__, error)
-        return caught.exception
-
+class WrongArguments(Raising):
     def test_wrong_house(self):
         for house, fault in WRONG_HOUSES:
             for function in OF_TWO + (shows_none,):

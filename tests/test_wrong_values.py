@@ -12,6 +12,7 @@ from nobodystays.roamers import (
 )
 from nobodystays.singles import core, core_is_group, is_single, surplus
 from nobodystays.stays import rings, stayers, table
+from tests.cases import Raising
 from tests.samples import (
     EIGHT_ALL, EIGHT_EVEN, NOT_WHOLE, SEVEN_ALL, SEVEN_OF_EIGHT, THREE, WRONG_HOUSES, WRONG_TURNS,
 )
@@ -31,13 +32,7 @@ WRONG_ROWS = (
 )
 
 
-class WrongArguments(unittest.TestCase):
-    def raised(self, error, function, *arguments):
-        with self.assertRaises(error) as caught:
-            function(*arguments)
-        self.assertIs(caught.exception.__class__, error)
-        return caught.exception
-
+class WrongArguments(Raising):
     def test_wrong_houses(self):
         for house, part in WRONG_HOUSES:
             for function in OF_A_HOUSE:
