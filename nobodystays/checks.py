@@ -1,6 +1,6 @@
-"""What a value must be to be a house, a turn or a row."""
+"""What a value must be to be a house, a turn, a row or a number."""
 
-from nobodystays.errors import BadHouse, BadRow, BadTurn
+from nobodystays.errors import BadHouse, BadNumber, BadRow, BadTurn
 
 MOST_HALLS = 8
 MOST_TURNS = 6
@@ -44,6 +44,12 @@ def check_house(house):
     fault = house_fault(house)
     if fault is not None:
         raise BadHouse(fault)
+
+
+def check_number(value, least, most):
+    """Raise BadNumber for a value that is no integer within the bounds."""
+    if not is_number(value, least, most):
+        raise BadNumber()
 
 
 def check_turn(halls, turn):

@@ -4,7 +4,7 @@ import ast
 import unittest
 from pathlib import Path
 
-from nobodystays import covers, groups, roamers, singles, stays
+from nobodystays import covers, groups, roamers, seats, sharps, singles, stays, turntexts
 
 PACKAGE = Path(groups.__file__).parent
 INTERFACE = {
@@ -17,6 +17,9 @@ INTERFACE = {
     ),
     singles: ("surplus", "is_single", "core", "core_is_group"),
     covers: ("is_within", "count_covered", "uncovered", "shows_uncovered"),
+    sharps: ("sharp_house", "shows_sharp"),
+    seats: ("Seats",),
+    turntexts: ("write_house", "read_house"),
 }
 
 

@@ -10,8 +10,10 @@ from nobodystays.groups import (
 from nobodystays.roamers import (
     count_roamers, has_fewest, is_sharp, least_roamer, plain_roamers, roamers, spare,
 )
+from nobodystays.seats import Seats
 from nobodystays.singles import core, core_is_group, is_single, surplus
 from nobodystays.stays import rings, stayers, table
+from nobodystays.turntexts import write_house
 from tests.cases import Raising
 from tests.samples import (
     EIGHT_ALL, EIGHT_EVEN, NOT_WHOLE, SEVEN_ALL, SEVEN_OF_EIGHT, THREE, WRONG_HOUSES, WRONG_TURNS,
@@ -20,7 +22,7 @@ from tests.samples import (
 OF_MEMBERS = (members, order, table, roamers, plain_roamers, count_roamers, least_roamer)
 OF_MEMBERS_OF_A_LOT = (spare, has_fewest, surplus, is_single, core, core_is_group)
 OF_A_LOT = OF_MEMBERS_OF_A_LOT + (is_sharp,)
-OF_A_HOUSE = (is_transitive, parts, rank) + OF_MEMBERS + OF_A_LOT
+OF_A_HOUSE = (is_transitive, parts, rank, Seats, write_house) + OF_MEMBERS + OF_A_LOT
 OF_A_TURN = (is_member, likes, rings, stayers)
 # What a wrong row is, for a house of two turns, and the index that it is told by.
 WRONG_ROWS = (
