@@ -19,7 +19,7 @@ TURNS = {
 
 
 def check_halls(halls):
-    """Raise BadNumber for what is no number of halls that are at least two."""
+    """Raise BadNumber for what is no integer from 2 to 8."""
     check_number(halls, FEWEST_HALLS, MOST_HALLS)
 
 
